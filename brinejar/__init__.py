@@ -1,0 +1,1 @@
+"""Brinejar: graphs of objects as streams of octets."""
