@@ -1,4 +1,4 @@
-"""What counts as an integer, a text, an atom, a key and a brand."""
+"""What counts as an integer, a text, an atom, a key, a brand and a tuple of octets."""
 
 # Ten to the power of 300, by exponents of at most two digits.
 ATOM_LIMIT = (10 ** 60) ** 5
@@ -7,6 +7,7 @@ BRAND_LIMIT = 40
 LETTERS = "abcdefghijklmnopqrstuvwxyzABCDEFGHIJKLMNOPQRSTUVWXYZ"
 OTHER_BRAND_SIGNS = "0123456789_."
 RESERVED_BRAND = "bag"
+OCTET_LIMIT = 256
 
 
 def is_integer(thing):
@@ -47,3 +48,10 @@ def same_atom(first, second):
     """Tell whether two atoms are equal and of the same kind."""
     # Python takes True for 1, which is another kind of atom.
     return isinstance(first, bool) == isinstance(second, bool) and first == second
+
+
+def are_octets(thing, limit):
+    """Tell whether thing is a tuple of at most so many integers from 0 to 255."""
+    if not isinstance(thing, tuple) or len(thing) > limit:
+        return False
+    return all([is_integer(octet) and 0 <= octet < OCTET_LIMIT for octet in thing])

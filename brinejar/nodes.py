@@ -1,11 +1,10 @@
 """The nodes of graphs: Octets, Pack, Row, Book, Bag and Thing."""
 
-from brinejar.atoms import is_atom, is_free_brand, is_integer, is_key, is_text
+from brinejar.atoms import are_octets, is_atom, is_free_brand, is_integer, is_key, is_text
 from brinejar.errors import InvalidBrand, InvalidIndex, InvalidKey, InvalidNumbers, InvalidValue
 from brinejar.errors import KeyTaken, NoEntry
 
 NUMBERS_LIMIT = 2000
-NUMBER_LIMIT = 256
 
 
 class Node:
@@ -32,7 +31,7 @@ class Octets(Node):
     SHAPE = "octets"
 
     def __init__(self, numbers=()):
-        if not are_numbers(numbers):
+        if not are_octets(numbers, NUMBERS_LIMIT):
             raise InvalidNumbers(numbers)
         self._numbers = numbers
 
@@ -256,13 +255,6 @@ def require_label(label):
         raise InvalidKey(label)
 
 
-def are_numbers(numbers):
-    """Tell whether numbers is a tuple that Octets can have."""
-    if not isinstance(numbers, tuple) or len(numbers) > NUMBERS_LIMIT:
-        return False
-    return all([is_integer(number) and 0 <= number < NUMBER_LIMIT for number in numbers])
-
-
 def are_pairs(pairs):
     """Tell whether pairs is a tuple of tuples of two items."""
     if not isinstance(pairs, tuple):
@@ -281,3 +273,9 @@ def ascending(keys):
     integers = sorted([key for key in keys if is_integer(key)])
     texts = sorted([key for key in keys if is_text(key)])
     return (*integers, *texts)
+
+
+def set_fields(thing, pairs):
+    """Set a field of a thing for each pair, in its old place if it is there already."""
+    for label, value in pairs:
+        thing.set_field(label, value)
