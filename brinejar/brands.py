@@ -1,7 +1,7 @@
 """What a registry knows of a brand: how its things are taken apart, made and built."""
 
 from brinejar.errors import InvalidMade, InvalidReduction
-from brinejar.nodes import Thing, set_fields
+from brinejar.nodes import Book, Thing, set_fields
 
 
 class AllowedBrand:
@@ -10,6 +10,11 @@ class AllowedBrand:
     def __init__(self, brand):
         self.takes = 0
         self._brand = brand
+
+    @property
+    def brand(self):
+        """The brand itself."""
+        return self._brand
 
     def take_apart(self, thing):
         """Return the arguments, the state, and the fields that take the place of a state."""
@@ -23,6 +28,14 @@ class AllowedBrand:
         """Set the fields of the pairs of a Book."""
         set_fields(thing, state.pairs)
 
+    def accepts_state(self, draft):
+        """Tell whether a thing can be built with the state that has this draft."""
+        return isinstance(draft, Book) and all([isinstance(key, str) for key, _ in draft.pairs])
+
+    def draft_building(self, draft):
+        """Return the state, and the fields that take its place."""
+        return None, draft.pairs
+
 
 class EnteredBrand:
     """A brand with hooks; they are not looked at before they are called."""
@@ -33,6 +46,11 @@ class EnteredBrand:
         self._make_hook = make
         self._reduce_hook = reduce
         self._build_hook = build
+
+    @property
+    def brand(self):
+        """The brand itself."""
+        return self._brand
 
     def take_apart(self, thing):
         """Return the arguments and the state; there are no fields in the place of a state."""
@@ -52,6 +70,14 @@ class EnteredBrand:
     def build_thing(self, thing, state):
         """Give a thing its state."""
         self._build_hook(thing, state)
+
+    def accepts_state(self, _):
+        """Tell whether a thing can be built."""
+        return self._build_hook is not None
+
+    def draft_building(self, draft):
+        """Return the state; there are no fields in its place."""
+        return draft, ()
 
     def _is_reduction(self, reduction):
         if not isinstance(reduction, tuple) or len(reduction) != 2:

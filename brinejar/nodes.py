@@ -158,13 +158,8 @@ class Bag(Node):
     SHAPE = "bag"
 
     def __init__(self, *members):
-        taken = {}
-        for key in members:
-            require_key(key)
-            if key in taken:
-                raise KeyTaken(key)
-            taken[key] = True
-        self._members = ascending(members)
+        self._entries = {}
+        add_members(self, members)
 
     @classmethod
     def of(cls, members):
@@ -176,7 +171,7 @@ class Bag(Node):
     @property
     def members(self):
         """The ascending tuple of the keys."""
-        return self._members
+        return ascending(list(self._entries))
 
     def _contents(self):
         return self.members
@@ -279,3 +274,17 @@ def set_fields(thing, pairs):
     """Set a field of a thing for each pair, in its old place if it is there already."""
     for label, value in pairs:
         thing.set_field(label, value)
+
+
+def add_members(bag, keys):
+    """Add keys to a Bag; only making and loading one do this."""
+    for key in keys:
+        require_key(key)
+        if key in bag._entries:
+            raise KeyTaken(key)
+        bag._entries[key] = True
+
+
+def holds_key(node, key):
+    """Tell whether a key is in a Book or a Bag."""
+    return key in node._entries

@@ -2,6 +2,12 @@
 
 NEWLINE = 10
 HEX_DIGITS = "0123456789abcdef"
+# No text contains the character between these two rows of characters.
+LOW_SIGNS = " !\"#$"
+LOW_CODE = 32
+HIGH_SIGNS = "&'()*+,-./0123456789:;<=>?@ABCDEFGHIJKLMNOPQRSTUVWXYZ[\\]^_`abcdefghijklmnopqrstuvwxyz{|}~"
+HIGH_CODE = 38
+ESCAPES = {"\\n": "\n", "\\\\": "\\"}
 
 
 def codes_of(text):
@@ -9,11 +15,50 @@ def codes_of(text):
     return [ord(sign) for sign in text]
 
 
+def sign_of(code):
+    """Return the character with this code, or None if it occurs in no text."""
+    if code == NEWLINE:
+        return "\n"
+    if LOW_CODE <= code < LOW_CODE + len(LOW_SIGNS):
+        return LOW_SIGNS[code - LOW_CODE]
+    if HIGH_CODE <= code < HIGH_CODE + len(HIGH_SIGNS):
+        return HIGH_SIGNS[code - HIGH_CODE]
+    return None
+
+
+def text_of(codes):
+    """Return the characters with these codes, or None if one of them occurs in no text."""
+    signs = [sign_of(code) for code in codes]
+    return None if None in signs else "".join(signs)
+
+
 def hex_text(numbers):
     """Return two digits for each number."""
     return "".join([f"{number:02x}" for number in numbers])
 
 
+def numbers_of(text):
+    """Return the tuple of the numbers that are written in two digits each, or None."""
+    digits = [HEX_DIGITS.find(sign) for sign in text]
+    if len(digits) % 2 == 1 or -1 in digits:
+        return None
+    return tuple([16 * high + low for high, low in zip(digits[::2], digits[1::2])])
+
+
 def escaped(text):
     """Return the text with escapes for newlines and backslashes."""
     return text.replace("\\", "\\\\").replace("\n", "\\n")
+
+
+def unescaped(line):
+    """Return the text that is written with escapes, or None if an escape is wrong."""
+    signs = []
+    at = 0
+    while at < len(line):
+        width = 2 if line[at] == "\\" else 1
+        sign = line[at] if width == 1 else ESCAPES.get(line[at:at + 2])
+        if sign is None:
+            return None
+        signs.append(sign)
+        at += width
+    return "".join(signs)

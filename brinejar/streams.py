@@ -2,6 +2,7 @@
 
 from brinejar.atoms import are_octets, is_integer
 from brinejar.errors import InvalidStream, InvalidVersion
+from brinejar.opcodes import number_of
 
 STREAM_LIMIT = 50000
 LAST_VERSION = 4
@@ -22,3 +23,10 @@ def require_version(version):
     """Raise InvalidVersion for what is no version."""
     if not is_version(version):
         raise InvalidVersion(version)
+
+
+def version_at_start(stream):
+    """Return the version of a stream, also of a wrong one."""
+    if len(stream) >= 2 and stream[0] == number_of("version") and 2 <= stream[1] <= LAST_VERSION:
+        return stream[1]
+    return 1

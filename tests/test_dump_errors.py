@@ -186,6 +186,22 @@ class DepthTests(unittest.TestCase):
         caught(UnknownBrand, dump, Pack(Thing("t"), deep))
         caught(TooDeep, dump, Pack(deep, Thing("t")))
 
+    def test_what_is_written_whole_is_no_longer_open(self):
+        registry = entered(Parts("n"), takes=1, build=print)
+        registry.enter("u", None, answering(((), Row(1))), build=print)
+        registry.allow("v")
+
+        def many():
+            row = Row()
+            pack = Pack(row)
+            row.put_last(pack)
+            return (Row(1), pack, Book.of(((1, 2), (3, 4))), Bag(1, "a"), Octets(), thing_with("t", ("n", 1)),
+                    Thing("u"),
+                    Thing("v"), thing_with("v", ("n", 1)), "salt", 5)
+
+        parts = [part for _ in range(60) for part in many()]
+        self.assert_deepest(lambda more: Row(*parts, nested(48 + more, 1)), registry)
+
     def test_deep_but_outside(self):
         row = nested(60, Row())
         self.assertEqual(plain(dump(row, version=3, outside=answering("x"))), "text-short 'x'; outer-text")
