@@ -33,5 +33,5 @@ def traced(stream, registry=None, *, has_outside=False):
     dry = DryRun(stream, registry, has_outside, {})
     while not dry.parser.is_done():
         dry.step()
-        yield dry.parser.offset, dry.parser.name, dry.shapes(), dry.memo_size()
+        yield dry.parser.offset, dry.parser.name, dry.shapes(), dry.given_numbers()
     dry.parser.require_end()

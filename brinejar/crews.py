@@ -11,11 +11,11 @@ class HookCrew:
     def __init__(self, outside):
         self._outside_hook = outside
 
-    def make_thing(self, known, arguments):
+    def thing_of(self, known, arguments):
         """Return what the brand makes of the arguments."""
         return known.make_thing(arguments)
 
-    def build_thing(self, known, thing, state):
+    def give_state(self, known, thing, state):
         """Give a thing its state."""
         known.build_thing(thing, state)
 
@@ -30,11 +30,11 @@ class HookCrew:
 class DraftCrew:
     """Makes and builds drafts, and calls no hook."""
 
-    def make_thing(self, known, arguments):
+    def thing_of(self, known, arguments):
         """Return the draft of a thing."""
         return ThingDraft(known.brand, arguments)
 
-    def build_thing(self, known, thing, state):
+    def give_state(self, known, thing, state):
         """Note how a thing is built."""
         thing.buildings.append(known.draft_building(state))
 

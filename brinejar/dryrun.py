@@ -41,7 +41,7 @@ class DryRun:
             shapes.extend(shapes_of(piece))
         return tuple(shapes)
 
-    def memo_size(self):
+    def given_numbers(self):
         """Return how many numbers are given."""
         return len(self._machine.memo)
 

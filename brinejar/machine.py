@@ -120,11 +120,11 @@ class Machine:
             # Only the class of Bags is always known.
             self.stack.push(Bag.of(pack.parts[0].parts))
         else:
-            self.stack.push(self._crew.make_thing(known, pack.parts))
+            self.stack.push(self._crew.thing_of(known, pack.parts))
 
     def _build(self, known):
         state = self.stack.take()
-        self._crew.build_thing(known, self.stack.peek(0), state)
+        self._crew.give_state(known, self.stack.peek(0), state)
 
     def _push_outside(self, label):
         self.stack.push(self._crew.outside_of(label))

@@ -78,6 +78,27 @@ class LanguageTests(unittest.TestCase):
                 kinds = (ast.ImportFrom, ast.FunctionDef, ast.ClassDef)
                 self.assertTrue(doc or plain or isinstance(row, kinds), at(path, row))
 
+    def test_values_at_module_level(self):
+        for path, tree in TREES.items():
+            for row in tree.body:
+                if isinstance(row, ast.Assign):
+                    inner = [part for part in ast.walk(row.value) if part is not row.value]
+                    self.assertFalse([part for part in inner if isinstance(part, (ast.List, ast.Dict, ast.Call))],
+                                     at(path, row))
+
+    def test_properties_share_no_names(self):
+        for path, part in found(ast.FunctionDef):
+            if [row for row in part.decorator_list if ast.unparse(row) == "property"]:
+                others = [other for _, other in found(ast.FunctionDef)
+                          if other.name == part.name and not other.decorator_list]
+                self.assertEqual(others, [], at(path, part))
+
+    def test_sorted_takes_lists(self):
+        for path, part in found(ast.Call):
+            if ast.unparse(part.func) in ("sorted", "any", "all") and part.args:
+                self.assertNotIsInstance(part.args[0], ast.GeneratorExp, at(path, part))
+            self.assertNotEqual(getattr(part.func, "attr", ""), "sort", at(path, part))
+
     def test_decorators(self):
         for path, part in found((ast.FunctionDef, ast.ClassDef)):
             for decorator in part.decorator_list:
