@@ -32,6 +32,10 @@ class DryRun:
             self.step()
         self.parser.require_end()
 
+    def result(self):
+        """Return the draft of the result, when all opcodes have run."""
+        return self._machine.stack.peek(0)
+
     def shapes(self):
         """Return the tuple of the shapes on the stack, the top one last."""
         first, *others = self._machine.stack.pieces()

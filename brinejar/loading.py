@@ -11,7 +11,12 @@ def load(stream, registry=None, *, outside=None):
     require_stream(stream)
     dry = DryRun(stream, registry, outside is not None, {})
     dry.finish()
-    machine = Machine(HookCrew(outside), {})
-    for name, content in dry.plan:
+    return result_of_run(dry.plan, outside, {})
+
+
+def result_of_run(plan, outside, memo):
+    """Return the result of the run that the dry run has planned."""
+    machine = Machine(HookCrew(outside), memo)
+    for name, content in plan:
         machine.perform(name, content)
     return machine.stack.peek(0)

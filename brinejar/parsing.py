@@ -35,6 +35,10 @@ class Parser:
         if self.name == "stop" and self._given_version == 4:
             self._require(self.end == self._frame_end, "frame")
 
+    def octets(self):
+        """Return the octets of the opcode with its argument."""
+        return self._stream[self.offset:self.end]
+
     def is_done(self):
         """Tell whether a stop was read."""
         return self.name == "stop"

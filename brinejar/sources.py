@@ -1,7 +1,8 @@
 """Where writing learns what it writes of things and of outside values."""
 
 from brinejar.atoms import is_text
-from brinejar.errors import InvalidLabel
+from brinejar.drafts import OutsideDraft
+from brinejar.errors import InvalidLabel, NotCanonical
 from brinejar.registry import registry_or_empty
 
 
@@ -30,3 +31,21 @@ class HookSource:
         if label is not None and not is_text(label):
             raise InvalidLabel(label)
         return label
+
+
+class DraftSource:
+    """Looks at what drafts know, and calls no hook."""
+
+    def label_of(self, draft):
+        """Return the label of the draft of an outside value, or None for another draft."""
+        return draft.label if isinstance(draft, OutsideDraft) else None
+
+    def take_apart(self, draft):
+        """Return the arguments, the state, and the fields that take the place of a state."""
+        if not draft.buildings:
+            return draft.arguments, None, ()
+        if len(draft.buildings) > 1:
+            # Writing builds a thing once, so no stream of dump gives this draft.
+            raise NotCanonical(0)
+        state, fields = draft.buildings[0]
+        return draft.arguments, state, fields

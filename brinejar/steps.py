@@ -27,14 +27,19 @@ def with_least_memo(steps):
 
 def stream_of(steps, version):
     """Return the stream with its header and frames."""
+    stream = unlimited_stream_of(steps, version)
+    if len(stream) > STREAM_LIMIT:
+        raise TooLong(STREAM_LIMIT)
+    return stream
+
+
+def unlimited_stream_of(steps, version):
+    """Return the octets with their header and frames, also if they are too many for a stream."""
     codes = [step_octets(word, content, version) for word, content in steps]
     pieces = codes if version < 4 else framed(codes)
     if version > 1:
         pieces = [octets_of("version", version), *pieces]
-    stream = tuple([octet for piece in pieces for octet in piece])
-    if len(stream) > STREAM_LIMIT:
-        raise TooLong(STREAM_LIMIT)
-    return stream
+    return tuple([octet for piece in pieces for octet in piece])
 
 
 def step_octets(word, content, version):

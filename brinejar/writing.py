@@ -2,8 +2,9 @@
 
 from brinejar.choices import atom_opcode, octets_opcode
 from brinejar.encoding import octets_of
-from brinejar.errors import InvalidValue, SelfArgument, TooDeep
+from brinejar.errors import Full, InvalidValue, SelfArgument, TooDeep
 from brinejar.nodes import Node, is_atom_or_node
+from brinejar.steps import with_least_memo
 
 DEPTH_LIMIT = 50
 SHARED_TEXT_LENGTH = 4
@@ -11,15 +12,24 @@ UNMARKED_PARTS = 3
 
 
 class Writing:
-    """The steps that write values one after the other, with one memo."""
+    """The steps that write values one after the other, with one memo.
 
-    def __init__(self, source, version, memo):
+    The memo gives no number above the memo limit, if there is one.
+    """
+
+    def __init__(self, source, version, memo, memo_limit=None):
         self.steps = []
         self.memo = memo
+        self._memo_limit = memo_limit
         self._source = source
         self._version = version
         self._depth = 0
         self._unmade = {}
+
+    def write_whole(self, value):
+        """Write a value and the end of its stream."""
+        self.write(value)
+        self.emit("stop")
 
     def write(self, value):
         """Write a value with all that it contains."""
@@ -46,6 +56,8 @@ class Writing:
 
     def _put(self, owner):
         number = len(self.memo)
+        if self._memo_limit is not None and number > self._memo_limit:
+            raise Full(self._memo_limit)
         self.memo[owner] = number
         self.steps.append(("put", number))
 
@@ -228,3 +240,10 @@ class Writing:
         self.emit("book")
         self._fill_book(pairs)
         self._end_value()
+
+
+def dumped_steps(value, source, version):
+    """Return the steps of the stream of one value alone, with the least memo."""
+    writing = Writing(source, version, {})
+    writing.write_whole(value)
+    return with_least_memo(writing.steps)
