@@ -4,7 +4,7 @@ from brinejar.atoms import OCTET_LIMIT, are_octets, is_brand, is_integer, is_key
 from brinejar.choices import SHORT_TEXT_LIMIT
 from brinejar.nodes import NUMBERS_LIMIT
 from brinejar.opcodes import form_of
-from brinejar.signs import numbers_of, text_of, unescaped
+from brinejar.signs import LINE_ESCAPES, numbers_of, text_of, unescaped
 from brinejar.streams import LAST_VERSION
 
 MEMO_LIMIT = 9999
@@ -67,7 +67,7 @@ def line_argument(name, line):
         return integer_of(line)
     if family == "octets":
         return numbers_of(line)
-    return unescaped(line)
+    return unescaped(line, LINE_ESCAPES)
 
 
 def counted_argument(name, content):

@@ -10,6 +10,11 @@ def is_value(thing):
     return is_atom_or_node(thing)
 
 
+def is_pack(value):
+    """Tell whether a value is a Pack, or stands for one that is not made yet."""
+    return isinstance(value, Node) and value.shape == "pack"
+
+
 def nodes_of(value):
     """Yield all nodes of the graph, each once, depth first, a node before its contents."""
     require_value(value)
@@ -90,10 +95,10 @@ def twin_of(value):
     twins = {}
     # Rings go through nodes that can be filled later, so these come before the Packs.
     for node in nodes:
-        if not isinstance(node, Pack):
+        if not is_pack(node):
             twins[node] = bare_twin(node)
     for node in nodes:
-        if isinstance(node, Pack):
+        if is_pack(node):
             make_pack_twins(node, twins)
     for node in nodes:
         fill_twin(node, twins)
@@ -118,7 +123,7 @@ def make_pack_twins(pack, twins):
     waiting = [pack]
     while waiting:
         last = waiting[-1]
-        missing = [part for part in last.parts if isinstance(part, Pack) and part not in twins]
+        missing = [part for part in last.parts if is_pack(part) and part not in twins]
         if missing:
             waiting.extend(missing)
         else:

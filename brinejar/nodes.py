@@ -186,7 +186,7 @@ class Thing(Node):
         if not is_free_brand(brand):
             raise InvalidBrand(brand)
         self._brand = brand
-        self._settings = {}
+        self._entries = {}
 
     @property
     def brand(self):
@@ -196,20 +196,20 @@ class Thing(Node):
     @property
     def fields(self):
         """The tuple of the pairs of a label and a value."""
-        return tuple(self._settings.items())
+        return tuple(self._entries.items())
 
     def set_field(self, label, value):
         """Set a field, in its old place if it is there already."""
         require_label(label)
         require_value(value)
-        self._settings[label] = value
+        self._entries[label] = value
 
     def field(self, label):
         """Return the value of a field."""
         require_label(label)
-        if label not in self._settings:
+        if label not in self._entries:
             raise NoEntry(label)
-        return self._settings[label]
+        return self._entries[label]
 
     def _contents(self):
         return items_of_pairs(self.fields)
@@ -286,5 +286,5 @@ def add_members(bag, keys):
 
 
 def holds_key(node, key):
-    """Tell whether a key is in a Book or a Bag."""
+    """Tell whether a key is in a Book or a Bag, or a label in a Thing."""
     return key in node._entries

@@ -7,7 +7,9 @@ LOW_SIGNS = " !\"#$"
 LOW_CODE = 32
 HIGH_SIGNS = "&'()*+,-./0123456789:;<=>?@ABCDEFGHIJKLMNOPQRSTUVWXYZ[\\]^_`abcdefghijklmnopqrstuvwxyz{|}~"
 HIGH_CODE = 38
-ESCAPES = {"\\n": "\n", "\\\\": "\\"}
+# Beside the escape of the backslash itself.
+LINE_ESCAPES = (("\\n", "\n"),)
+QUOTED_ESCAPES = (("\\n", "\n"), ("\\\"", "\""))
 
 
 def codes_of(text):
@@ -50,15 +52,12 @@ def escaped(text):
     return text.replace("\\", "\\\\").replace("\n", "\\n")
 
 
-def unescaped(line):
+def unescaped(line, escapes):
     """Return the text that is written with escapes, or None if an escape is wrong."""
-    signs = []
-    at = 0
-    while at < len(line):
-        width = 2 if line[at] == "\\" else 1
-        sign = line[at] if width == 1 else ESCAPES.get(line[at:at + 2])
-        if sign is None:
-            return None
-        signs.append(sign)
-        at += width
-    return "".join(signs)
+    # Only the escape of a backslash has a backslash in its second place, so these can be taken out first.
+    pieces = line.split("\\\\")
+    for written, sign in escapes:
+        pieces = [piece.replace(written, sign) for piece in pieces]
+    if any(["\\" in piece for piece in pieces]):
+        return None
+    return "\\".join(pieces)

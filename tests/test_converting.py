@@ -197,7 +197,8 @@ class NotCanonicalTests(unittest.TestCase):
         self.assert_differs(["row", "put-next", ("get-wide", 0), "append"],
                             ["row", "put-next", ("get-octet", 0), "append"])
         self.assert_differs(["row", "mark", "none", "append-all"], ["row", "none", "append"])
-        self.assert_differs(["row", "none", "append", "none", "append"], ["row", "mark", "none", "none", "append-all"])
+        self.assert_differs(["row", "none", "append", "none", "append"], ["row", "mark", "none", "none",
+                                                                          "append-all"])
         self.assert_differs(["book", "mark", ("integer-octet", 1), "none", "enter-all"],
                             ["book", ("integer-octet", 1), "none", "enter"])
         self.assert_differs(["bag", "mark", "add-all"], ["bag"])
@@ -266,7 +267,8 @@ class NotCanonicalTests(unittest.TestCase):
                 for version in VERSIONS[:3]:
                     stream = stream_of_words(version, *made, *state, "build", *state, "build", "stop")
                     self.assertEqual(self.offset_of(stream), 0)
-                    stream = stream_of_words(version, "row", *made, *state, "build", "book", "build", "append", "stop")
+                    stream = stream_of_words(version, "row", *made, *state, "build", "book", "build", "append",
+                                             "stop")
                     self.assertEqual(self.offset_of(stream), 0)
         stream = stream_of_words(1, *BUILDING, "none", "build", "none", "build", "stop")
         self.assertEqual(self.offset_of(stream), 0)

@@ -90,7 +90,8 @@ class MemoTests(OptimizingTests):
             for name in ("put-line", "put-octet", "put-wide"):
                 for get in ("get-line", "get-octet", "get-wide"):
                     stream = stream_of_words(version, "row", (name, 17), (get, 17), "append", "stop")
-                    self.assertEqual(optimized(stream), self.numbered(version, "row", put(0), got(0), "append", "stop"))
+                    self.assertEqual(optimized(stream), self.numbered(version, "row", put(0), got(0), "append",
+                                                                      "stop"))
         stream = stream_of_words(3, "row", "put-next", ("get-wide", 0), "append", "stop")
         self.assertEqual(optimized(stream), (161, 3, 182, 193, 195, 0, 183, 160))
 
@@ -206,9 +207,11 @@ class FactTests(OptimizingTests):
 
         registry = Registry("allowed")
         registry.enter("t", noting("make", lambda: Thing("t")), never_called, takes=1, build=noting("build", Row))
-        words = ["row", put(4), ("class-line", "t"), ("outer-line", "x"), "mark", "drop-to-mark", "drop", ("text-line", "name"), put(9), "mark", got(9),
+        words = ["row", put(4), ("class-line", "t"), ("outer-line", "x"), "mark", "drop-to-mark", "drop",
+                 ("text-line", "name"), put(9), "mark", got(9),
                   "drop-to-mark", "pack-1", put(3), "make", put(2), got(4), "build", got(9), "build", "append",
-                  ("outer-line", "y"), "append", got(2), "append", ("class-line", "allowed"), "pack-0", "make", put(8),
+                  ("outer-line", "y"), "append", got(2), "append", ("class-line", "allowed"), "pack-0", "make",
+                  put(8),
                   "append"]
         for version in (2, 3, 4):
             stream = stream_of_words(version, *words, "stop")
@@ -224,7 +227,8 @@ class FactTests(OptimizingTests):
             calls.clear()
 
     def test_no_hook_is_called(self):
-        words = [("outer-line", "x"), ("class-line", "build"), "mark", "pack", "make", put(5), "none", "build", "drop"]
+        words = [("outer-line", "x"), ("class-line", "build"), "mark", "pack", "make", put(5), "none", "build",
+                 "drop"]
         for version in range(1, 5):
             stream = stream_of_words(version, *words, "stop")
             self.assertEqual(len(optimized(stream, hooks(), has_outside=True)) < len(stream), True)

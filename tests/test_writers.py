@@ -104,7 +104,8 @@ class MemoTests(WriterTests):
     def test_inner_nodes_are_got_later(self):
         inner = Row("salt")
         writer = Writer(version=3)
-        self.assert_writes(writer, Pack(inner), "row; put-next; text-short 'salt'; put-next; append; pack-1; put-next",
+        self.assert_writes(writer, Pack(inner),
+                           "row; put-next; text-short 'salt'; put-next; append; pack-1; put-next",
                            3)
         self.assert_writes(writer, inner, "get-octet 0", 3)
         self.assert_writes(writer, Pack(inner), "get-octet 0; pack-1; put-next", 4)
@@ -114,7 +115,8 @@ class MemoTests(WriterTests):
         pack = Pack(row)
         row.put_last(pack)
         writer = Writer(version=2)
-        self.assert_writes(writer, pack, "row; put-octet 0; get-octet 0; pack-1; put-octet 1; append; drop; get-octet 1",
+        self.assert_writes(writer, pack,
+                           "row; put-octet 0; get-octet 0; pack-1; put-octet 1; append; drop; get-octet 1",
                            2)
         self.assert_writes(writer, Pack(pack, row), "get-octet 1; get-octet 0; pack-2; put-octet 2", 3)
 
@@ -123,7 +125,8 @@ class MemoTests(WriterTests):
         registry.enter("u", None, Parts("x"), takes=1)
         writer = Writer(registry, version=4)
         one, two = thing_with("t", ("name", 1)), thing_with("u", ("x", "name"))
-        self.assert_writes(writer, one, "text-short 't'; class-text; pack-0; make; put-next; book; text-short 'name'; "
+        self.assert_writes(writer, one,
+                           "text-short 't'; class-text; pack-0; make; put-next; book; text-short 'name'; "
                                         "put-next; integer-octet 1; enter; build", 2)
         self.assert_writes(writer, two, "text-short 'u'; class-text; get-octet 1; pack-1; make; put-next", 3)
         self.assert_writes(writer, Pack(one, two), "get-octet 0; get-octet 2; pack-2; put-next", 4)
@@ -186,8 +189,10 @@ class HookTests(WriterTests):
         row.put_last(octets)
         pack = Pack(octets, row, octets, row)
         writer = Writer(version=3, outside=outside)
-        self.assert_writes(writer, pack, "mark; text-short 'label'; put-next; outer-text; row; put-next; get-octet 0; "
-                                         "outer-text; append; get-octet 0; outer-text; get-octet 1; pack; put-next", 3)
+        self.assert_writes(writer, pack,
+                           "mark; text-short 'label'; put-next; outer-text; row; put-next; get-octet 0; "
+                                         "outer-text; append; get-octet 0; outer-text; get-octet 1; pack; put-next",
+                                         3)
         self.assertEqual(calls, [pack, octets, row])
         calls.clear()
         # What has a number is not asked for, and an outside value has none.
@@ -355,7 +360,8 @@ class FullTests(WriterTests):
 
     def test_dump_has_no_such_limit(self):
         for version in VERSIONS[1:]:
-            self.assertEqual(len(plain(dump(Row(*[Row() for _ in range(12000)]), version=version)).split("; ")), 12003)
+            self.assertEqual(len(plain(dump(Row(*[Row() for _ in range(12000)]), version=version)).split("; ")),
+                             12003)
 
 
 class InterfaceTests(unittest.TestCase):
