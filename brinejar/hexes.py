@@ -15,9 +15,9 @@ def read_stream(text):
     """Return the stream that is written so, whether it is right or not."""
     if not isinstance(text, str):
         raise InvalidText(None)
-    for offset, sign in enumerate(text):
-        if sign not in HEX_DIGITS:
-            raise InvalidText(offset)
+    rest = text.lstrip(HEX_DIGITS)
+    if rest:
+        raise InvalidText(len(text) - len(rest))
     if len(text) % 2 == 1:
         raise InvalidText(len(text))
     if len(text) > 2 * STREAM_LIMIT:

@@ -17,6 +17,8 @@ class Parser:
         self.argument = None
         self.end = 0
         self._stream = stream
+        # With one more octet 10 each line has an end, be it too late.
+        self._lines = (*stream, NEWLINE)
         self._given_version = version_at_start(stream)
         self._frame_end = 0
 
@@ -91,9 +93,9 @@ class Parser:
 
     def _bounds_of_line(self):
         start = self.end
-        while self._taken(1) != (NEWLINE,):
-            pass
-        return start, self.end - 1
+        newline = self._lines.index(NEWLINE, start)
+        self._taken(newline + 1 - start)
+        return start, newline
 
     def _taken(self, count):
         """Return the next octets of the argument, and go on behind them."""

@@ -2,11 +2,16 @@
 
 NEWLINE = 10
 HEX_DIGITS = "0123456789abcdef"
-# No text contains the character between these two rows of characters.
-LOW_SIGNS = " !\"#$"
-LOW_CODE = 32
-HIGH_SIGNS = "&'()*+,-./0123456789:;<=>?@ABCDEFGHIJKLMNOPQRSTUVWXYZ[\\]^_`abcdefghijklmnopqrstuvwxyz{|}~"
-HIGH_CODE = 38
+HEX_VALUES = {
+    "0": 0, "1": 1, "2": 2, "3": 3, "4": 4, "5": 5, "6": 6, "7": 7,
+    "8": 8, "9": 9, "a": 10, "b": 11, "c": 12, "d": 13, "e": 14, "f": 15,
+}
+NO_SIGN = "\t"
+# The character of each code, or the sign for a code whose character occurs in no text.
+SIGNS = (
+    "\t" * 10 + "\n" + "\t" * 21 + " !\"#$" + "\t"
+    + "&'()*+,-./0123456789:;<=>?@ABCDEFGHIJKLMNOPQRSTUVWXYZ[\\]^_`abcdefghijklmnopqrstuvwxyz{|}~" + "\t" * 129
+)
 # Beside the escape of the backslash itself.
 LINE_ESCAPES = (("\\n", "\n"),)
 QUOTED_ESCAPES = (("\\n", "\n"), ("\\\"", "\""))
@@ -17,21 +22,10 @@ def codes_of(text):
     return [ord(sign) for sign in text]
 
 
-def sign_of(code):
-    """Return the character with this code, or None if it occurs in no text."""
-    if code == NEWLINE:
-        return "\n"
-    if LOW_CODE <= code < LOW_CODE + len(LOW_SIGNS):
-        return LOW_SIGNS[code - LOW_CODE]
-    if HIGH_CODE <= code < HIGH_CODE + len(HIGH_SIGNS):
-        return HIGH_SIGNS[code - HIGH_CODE]
-    return None
-
-
 def text_of(codes):
     """Return the characters with these codes, or None if one of them occurs in no text."""
-    signs = [sign_of(code) for code in codes]
-    return None if None in signs else "".join(signs)
+    text = "".join([SIGNS[code] for code in codes])
+    return None if NO_SIGN in text else text
 
 
 def hex_text(numbers):
@@ -41,10 +35,10 @@ def hex_text(numbers):
 
 def numbers_of(text):
     """Return the tuple of the numbers that are written in two digits each, or None."""
-    digits = [HEX_DIGITS.find(sign) for sign in text]
-    if len(digits) % 2 == 1 or -1 in digits:
+    # Nothing is left of a text of digits without them.
+    if len(text) % 2 == 1 or text.strip(HEX_DIGITS):
         return None
-    return tuple([16 * high + low for high, low in zip(digits[::2], digits[1::2])])
+    return tuple([16 * HEX_VALUES[high] + HEX_VALUES[low] for high, low in zip(text[::2], text[1::2])])
 
 
 def escaped(text):
