@@ -6,7 +6,7 @@ from brinejar.errors import InvalidRow
 from brinejar.opcodes import opcode_names, since
 from brinejar.parsing import Parser
 from brinejar.steps import stream_of
-from brinejar.streams import is_version, require_stream, require_version
+from brinejar.streams import LAST_VERSION, is_version, require_stream, require_version
 
 
 def described(stream):
@@ -23,24 +23,24 @@ def assembled(rows, version):
     """Return the stream of the rows with its header and frames, whether it is right or not."""
     if not isinstance(rows, tuple):
         raise InvalidRow(None)
+    names = row_names(version)
     for position, row in enumerate(rows):
-        if not is_row(row, version):
+        if not is_row(row, names):
             raise InvalidRow(position)
     require_version(version)
     return stream_of([("code", octets_of(name, argument)) for name, argument in rows], version)
 
 
-def is_row(row, version):
-    """Tell whether row is a pair of a name and an argument for a stream of this version."""
+def row_names(version):
+    """Return a dict of the names of the opcodes that rows can have in this version."""
+    # A wrong version is an error of its own, which comes later.
+    newest = version if is_version(version) else LAST_VERSION
+    return {name: True for name in opcode_names() if since(name) <= newest and name not in ("version", "frame")}
+
+
+def is_row(row, names):
+    """Tell whether row is a pair of one of the names and an argument."""
     if not isinstance(row, tuple) or len(row) != 2:
         return False
     name, argument = row
-    return is_row_name(name, version) and is_argument(name, argument)
-
-
-def is_row_name(name, version):
-    """Tell whether name is the name of an opcode that a row can have."""
-    if name not in opcode_names() or name in ("version", "frame"):
-        return False
-    # A wrong version is an error of its own, which comes later.
-    return not is_version(version) or since(name) <= version
+    return isinstance(name, str) and name in names and is_argument(name, argument)

@@ -8,14 +8,15 @@ WIDE_OCTETS = 4
 
 def octets_of(name, argument=None):
     """Return the tuple of the octets of an opcode."""
-    content = argument_octets(form_of(name), argument)
-    return (number_of(name), *content)
+    number = number_of(name)
+    form = form_of(name)
+    if form == "none":
+        return (number,)
+    return (number, *argument_octets(form, argument))
 
 
 def argument_octets(form, argument):
     """Return the list of the octets of an argument."""
-    if form == "none":
-        return []
     if form == "octet":
         return [argument]
     if form == "wide":

@@ -209,6 +209,22 @@ class RefusedTests(unittest.TestCase):
                         expected = "frame"
                     self.assertEqual(refused_at(in_version(version, (octet, 5, 5, 5, 5, 5))), (start, expected), octet)
 
+    def test_all_numbers_from_0_to_300(self):
+        for number in range(301):
+            stream = (163, number)
+            if number > 255:
+                self.assertIs(caught(InvalidStream, lambda: list(described(stream))).value, stream)
+                continue
+            name, form, since = TABLE.get(number, ("", "", 9))
+            if since > 1:
+                self.assertEqual(refusal(stream), ([(0, "none", None)], 1, "opcode"))
+            elif form == "line":
+                self.assertEqual(refusal(stream), ([(0, "none", None)], 1, "end"))
+            elif name == "stop":
+                self.assertEqual(list(described(stream)), [(0, "none", None), (1, "stop", None)])
+            else:
+                self.assertEqual(refusal(stream), ([(0, "none", None), (1, name, None)], 2, "end"))
+
     def test_version_behind_the_start(self):
         self.assertEqual(refused_at((163, 161, 2, 160)), (1, "opcode"))
         self.assertEqual(refused_at((161, 2, 161, 2, 160)), (2, "opcode"))
@@ -377,6 +393,11 @@ class AssembledTests(unittest.TestCase):
                 self.assert_wrong_row((name, argument), 4)
                 self.assert_wrong_row((name, argument), 9)
 
+    def test_lists_and_truths_are_no_names(self):
+        for name in ([], ["stop"], [[]], {}, {"stop": None}, True, False, ("stop",), b"stop"):
+            for version in (1, 2, 3, 4, 9, None):
+                self.assert_wrong_row((name, None), version)
+
     def test_opcodes_of_later_versions(self):
         for name, _, since in TABLE.values():
             if name in ("version", "frame"):
@@ -417,6 +438,13 @@ class AssembledTests(unittest.TestCase):
             self.assertIs(caught(InvalidVersion, assembled, (("bag", None),), wrong).value, wrong)
             self.assertIs(caught(InvalidVersion, assembled, (), wrong).value, wrong)
             self.assertEqual(caught(InvalidRow, assembled, (("bag", None), ("bag", 1)), wrong).position, 1)
+
+    def test_as_many_opcodes_as_a_stream_has_octets(self):
+        rows = (("none", None), ("drop", None)) * 24990 + (("none", None), ("stop", None))
+        self.assertEqual(assembled(rows, 3), (161, 3) + (163, 175) * 24990 + (163, 160))
+        found = list(described((163, 175) * 24999 + (163, 160)))
+        self.assertEqual((len(found), found[:3], found[-1]),
+                         (50000, [(0, "none", None), (1, "drop", None), (2, "none", None)], (49999, "stop", None)))
 
     def test_too_long(self):
         self.assertEqual(len(assembled((("none", None),) * 50000, 1)), 50000)

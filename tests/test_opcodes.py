@@ -30,6 +30,22 @@ class OpcodeTests(unittest.TestCase):
             self.assertEqual(name_of(number), name)
             self.assertEqual(since(name), version)
 
+    def test_all_numbers_from_0_to_300(self):
+        for number in range(301):
+            if number in TABLE:
+                self.assertEqual(name_of(number), TABLE[number][0])
+            else:
+                self.assertEqual(caught(NoName, name_of, number).given, number)
+
+    def test_lists_and_truths(self):
+        for wrong in ([], ["stop"], [160], [["stop"]], {}, {"stop": 160}, True, False):
+            for call in (name_of, number_of, since):
+                self.assertIs(caught(NoName, call, wrong).given, wrong)
+
+    def test_answers_of_their_kinds(self):
+        for name in opcode_names():
+            self.assertEqual([type(answer) for answer in (name, number_of(name), since(name))], [str, int, int])
+
     def test_by_name(self):
         self.assertEqual((number_of(name="stop"), name_of(number=202), since(name="bag")), (160, "outer-text", 4))
 
