@@ -36,7 +36,7 @@ class GraphReader:
     def __init__(self, text):
         self._tokens = Tokens(text)
         self._given = []
-        self._open = []
+        self._nesting = []
         self._readers = {
             "octets": self._read_nothing, "(": self._read_pack, "[": self._read_row, "{": self._read_book,
             "bag": self._read_bag, "brand": self._read_thing,
@@ -70,15 +70,15 @@ class GraphReader:
 
     def _read_node(self, has_number):
         kind = self._tokens.kind
-        self._tokens.require(kind in self._readers and len(self._open) < OPEN_LIMIT)
+        self._tokens.require(kind in self._readers and len(self._nesting) < OPEN_LIMIT)
         node = bare_node(kind, self._tokens.content)
         if has_number:
             self._given.append(node)
-        self._open.append(node)
+        self._nesting.append(node)
         self._tokens.advance()
         read_contents = self._readers[kind]
         read_contents(node)
-        self._open.pop()
+        self._nesting.pop()
         return node
 
     def _read_nothing(self, _):
@@ -175,7 +175,7 @@ class GraphReader:
     def _innermost_packs(self):
         """Return a dict of the open Packs that contain the next value by way of Packs only."""
         packs = {}
-        for node in self._open[::-1]:
+        for node in self._nesting[::-1]:
             if not is_pack(node):
                 return packs
             packs[node] = True

@@ -157,6 +157,12 @@ class ErrorTests(unittest.TestCase):
         ring.put_last(nested(49, ring))
         self.assertEqual(graph_text(ring), "#0=" + "[" * 50 + "#0" + "]" * 50)
 
+    def test_what_stands_ahead_does_not_count(self):
+        for many in (1, 2, 60):
+            ahead = [Row(Octets()) for _ in range(many)]
+            graph_text(Row(*ahead, nested(49, 1)))
+            caught(TooDeep, graph_text, Row(*ahead, nested(50, 1)))
+
     def test_very_deep_graphs(self):
         caught(TooDeep, graph_text, nested(300, 1))
 

@@ -227,6 +227,7 @@ class ConvertTests(JarTests):
         jar.put("a", 1)
         for wrong in NEVER_VERSIONS:
             self.assertIs(self.assert_unchanged(jar, InvalidVersion, jar.convert, wrong).value, wrong)
+            self.assertIs(self.assert_unchanged(Jar(), InvalidVersion, Jar().convert, wrong).value, wrong)
             self.assertIs(caught(InvalidVersion, Jar, version=wrong).value, wrong)
             self.assertIs(caught(InvalidVersion, Jar, Registry(), version=wrong).value, wrong)
 

@@ -226,6 +226,12 @@ class WrongTests(ReadGraphTests):
                      "#0=((#1=[#0],), #1)", "#0=([#1=([#0],)], #1)"):
             self.assertIsNone(offset_of(text), text)
 
+    def test_packs_that_contain_one_another_many_times(self):
+        doubled = "".join([f", #{n}=(#{n - 1}, #{n - 1})" for n in range(1, 48)])
+        self.assertIsNone(offset_of(f"(#0=(){doubled}, #47)"))
+        deep = "".join([f"#{n}=([(#{n},)], " for n in range(20)])
+        self.assertIsNone(offset_of(deep + "()" + ")" * 20))
+
     def test_a_key_or_label_that_occurs_before(self):
         self.assert_wrong_at("{1: 2, @1: 2}", '{"a": 2, 1: 1, @"a": 3}', 't{"a": 2, @"a": 2}',
                              '{"\\n": 1, @"\\n": 1}',
