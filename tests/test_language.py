@@ -145,6 +145,28 @@ class LanguageTests(unittest.TestCase):
             used = {part.id for part in ast.walk(tree) if isinstance(part, ast.Name)}
             self.assertLessEqual({word for word in used if hasattr(builtins, word)}, BUILTINS, path.name)
 
+    def test_variables_share_no_names_with_imports_and_classes(self):
+        for path, tree in TREES.items():
+            taken = {part.name for part in tree.body if isinstance(part, ast.ClassDef)}
+            taken |= {alias.name for part in tree.body if isinstance(part, ast.ImportFrom) for alias in part.names}
+            bound = {part.arg for part in ast.walk(tree) if isinstance(part, ast.arg)}
+            bound |= {part.id for part in ast.walk(tree) if isinstance(part, ast.Name)
+                      and isinstance(part.ctx, ast.Store)}
+            self.assertEqual(taken & bound, set(), path.name)
+
+    def test_words_that_are_not_used(self):
+        barred = {"register", "mro", "elements", "open", "input", "law", "typing", "enum", "type", "exec", "eval"}
+        for path, part in found((ast.Name, ast.Attribute, ast.arg, ast.keyword, ast.FunctionDef, ast.Constant)):
+            words = [getattr(part, field, None) for field in ("id", "attr", "arg", "name", "value")]
+            self.assertEqual([word for word in words if isinstance(word, str) and word in barred], [], at(path, part))
+
+    def test_contexts_end_with_plain_assignments(self):
+        for path, part in found(ast.FunctionDef):
+            if part.name == "__exit__":
+                rows = [row for row in ast.walk(part) if isinstance(row, ast.stmt) and row is not part]
+                for row in rows:
+                    self.assertIsInstance(row, (ast.Assign, ast.If), at(path, row))
+
     def test_generators_share_no_names(self):
         names = [part.name for _, part in found(ast.FunctionDef)]
         for path, part in found(ast.FunctionDef):
