@@ -3,7 +3,7 @@
 All other values are their own drafts, with drafts in their contents.
 """
 
-from brinejar.nodes import Node
+from brinejar.nodes import Node, shorten_node
 
 
 class ThingDraft(Node):
@@ -68,6 +68,14 @@ def shape_of(draft):
     if isinstance(draft, int):
         return "integer"
     return "text" if isinstance(draft, str) else draft.shape
+
+
+def shorten_draft(draft, contents):
+    """Take back what was added last to the draft of a thing, a Row, a Book or a Bag."""
+    if isinstance(draft, ThingDraft):
+        del draft.buildings[len(draft.buildings) - len(contents):]
+    else:
+        shorten_node(draft, contents)
 
 
 def is_key_draft(draft):

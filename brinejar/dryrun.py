@@ -11,11 +11,11 @@ from brinejar.registry import registry_or_empty
 class DryRun:
     """Runs a stream dry, opcode by opcode, and notes what the run needs to know."""
 
-    def __init__(self, stream, registry, has_outside, memo):
+    def __init__(self, stream, registry, has_outside, memo, crew=None):
         self.parser = Parser(stream)
         # Pairs of the name of an opcode and what it is to be run with.
         self.plan = []
-        self._machine = Machine(DraftCrew(), memo)
+        self._machine = Machine(DraftCrew() if crew is None else crew, memo)
         self._conditions = Conditions(self._machine, registry_or_empty(registry), has_outside)
 
     def step(self):

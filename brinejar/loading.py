@@ -11,12 +11,12 @@ def load(stream, registry=None, *, outside=None):
     require_stream(stream)
     dry = DryRun(stream, registry, outside is not None, {})
     dry.finish()
-    return result_of_run(dry.plan, outside, {})
+    return result_of_run(dry.plan, HookCrew(outside), {})
 
 
-def result_of_run(plan, outside, memo):
+def result_of_run(plan, crew, memo):
     """Return the result of the run that the dry run has planned."""
-    machine = Machine(HookCrew(outside), memo)
+    machine = Machine(crew, memo)
     for name, content in plan:
         machine.perform(name, content)
     return machine.stack.peek(0)

@@ -2,7 +2,7 @@
 
 from brinejar.arguments import family_of
 from brinejar.drafts import ClassDraft
-from brinejar.nodes import Bag, Book, Octets, Pack, Row, add_members
+from brinejar.nodes import Bag, Book, Octets, Pack, Row
 from brinejar.stack import Stack
 
 # These do the same whatever the form of the argument.
@@ -16,7 +16,7 @@ def task_of(name):
 
 
 class Machine:
-    """A stack and a memo, and a crew that makes and builds things and knows outside values.
+    """A stack and a memo, and a crew that changes nodes, makes and builds things and knows outside values.
 
     What an opcode is run with, its content, was found out by the dry run.
     """
@@ -72,33 +72,30 @@ class Machine:
 
     def _put_last(self, _):
         value = self.stack.take()
-        self.stack.peek(0).put_last(value)
+        self._crew.fill(self.stack.peek(0), [value])
 
     def _put_all(self, _):
         values = self.stack.take_marked()
-        row = self.stack.peek(0)
-        for value in values:
-            row.put_last(value)
+        self._crew.fill(self.stack.peek(0), values)
 
     def _push_book(self, _):
         self.stack.push(Book())
 
     def _enter_pair(self, _):
-        key, value = self.stack.take_many(2)
-        self.stack.peek(0).enter(key, value)
+        pair = self.stack.take_many(2)
+        self._crew.fill(self.stack.peek(0), [pair])
 
     def _enter_all(self, _):
         contents = self.stack.take_marked()
-        book = self.stack.peek(0)
-        for key, value in zip(contents[::2], contents[1::2]):
-            book.enter(key, value)
+        pairs = list(zip(contents[::2], contents[1::2]))
+        self._crew.fill(self.stack.peek(0), pairs)
 
     def _push_bag(self, _):
         self.stack.push(Bag())
 
     def _add_all(self, _):
         members = self.stack.take_marked()
-        add_members(self.stack.peek(0), members)
+        self._crew.fill(self.stack.peek(0), members)
 
     def _give_number(self, number):
         self.memo[number] = self.stack.peek(0)

@@ -285,6 +285,32 @@ def add_members(bag, keys):
         bag._entries[key] = True
 
 
+def extend_node(node, contents):
+    """Add values to a Row, pairs to a Book or keys to a Bag; only running a stream does this."""
+    # They come from a stack, and were found to be values and keys before.
+    if isinstance(node, Row):
+        node._sequence.extend(contents)
+    elif isinstance(node, Book):
+        for key, value in contents:
+            if key in node._entries:
+                raise KeyTaken(key)
+            node._entries[key] = value
+    else:
+        add_members(node, contents)
+
+
+def shorten_node(node, contents):
+    """Take back what was added last to a Row, a Book or a Bag."""
+    if isinstance(node, Row):
+        del node._sequence[len(node._sequence) - len(contents):]
+    elif isinstance(node, Book):
+        for key, _ in contents:
+            del node._entries[key]
+    else:
+        for key in contents:
+            del node._entries[key]
+
+
 def holds_key(node, key):
     """Tell whether a key is in a Book or a Bag, or a label in a Thing."""
     return key in node._entries

@@ -1,7 +1,9 @@
 """Writers and readers, which keep their memo over many streams."""
 
 from brinejar.arguments import MEMO_LIMIT
+from brinejar.crews import LeadingCrew, NotingCrew
 from brinejar.dryrun import DryRun
+from brinejar.errors import Refused
 from brinejar.loading import result_of_run
 from brinejar.registry import registry_or_empty
 from brinejar.sources import HookSource
@@ -47,7 +49,7 @@ class Reader:
     def __init__(self, registry=None, *, outside=None):
         self._registry = registry_or_empty(registry)
         self._outside_hook = outside
-        # The numbers of one are always those of the other one.
+        # The numbers of one are always those of the other one, and drafts know what their values have.
         self._drafts = {}
         self._numbered = {}
 
@@ -56,10 +58,10 @@ class Reader:
         require_stream(stream)
         # An error leaves the memo as it was, because only copies are run with.
         drafts = dict(self._drafts)
-        dry = DryRun(stream, self._registry, self._outside_hook is not None, drafts)
-        dry.finish()
+        noting = NotingCrew()
+        plan = self._plan_of(stream, drafts, noting)
         numbered = dict(self._numbered)
-        result = result_of_run(dry.plan, self._outside_hook, numbered)
+        result = result_of_run(plan, LeadingCrew(self._outside_hook, noting.additions), numbered)
         self._drafts = drafts
         self._numbered = numbered
         return result
@@ -73,3 +75,14 @@ class Reader:
         """Forget all numbers."""
         self._drafts = {}
         self._numbered = {}
+
+    def _plan_of(self, stream, drafts, noting):
+        """Return the plan of the dry run; no draft of an earlier stream is changed, whether it is refused or not."""
+        dry = DryRun(stream, self._registry, self._outside_hook is not None, drafts, noting)
+        try:
+            dry.finish()
+        except Refused:
+            noting.take_back()
+            raise
+        noting.take_back()
+        return dry.plan
