@@ -12,21 +12,23 @@ def octets_of(name, argument=None):
     form = form_of(name)
     if form == "none":
         return (number,)
-    return (number, *argument_octets(form, argument))
+    first, last = argument_octets(form, argument)
+    # Texts are long, so their octets are copied only here.
+    return (number, *first, *last)
 
 
 def argument_octets(form, argument):
-    """Return the list of the octets of an argument."""
+    """Return the pair of the first and the last octets of an argument."""
     if form == "octet":
-        return [argument]
+        return (), (argument,)
     if form == "wide":
-        return wide_octets(argument)
+        return (), wide_octets(argument)
     if form == "line":
-        return [*codes_of(line_of(argument)), NEWLINE]
+        return codes_of(line_of(argument)), (NEWLINE,)
     content = counted_octets(argument)
     if form == "counted":
-        return [len(content), *content]
-    return wide_octets(len(content)) + content
+        return (len(content),), content
+    return wide_octets(len(content)), content
 
 
 def line_of(argument):
@@ -43,7 +45,7 @@ def counted_octets(argument):
     if isinstance(argument, int):
         return least_octets(argument)
     if isinstance(argument, tuple):
-        return list(argument)
+        return argument
     return codes_of(argument)
 
 

@@ -18,8 +18,8 @@ QUOTED_ESCAPES = (("\\n", "\n"), ("\\\"", "\""))
 
 
 def codes_of(text):
-    """Return the list of the codes of the characters."""
-    return [ord(sign) for sign in text]
+    """Return the bytes with the codes of the characters."""
+    return text.encode("latin-1")
 
 
 def text_of(codes):

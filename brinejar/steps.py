@@ -27,19 +27,32 @@ def with_least_memo(steps):
 
 def stream_of(steps, version):
     """Return the stream with its header and frames."""
-    stream = unlimited_stream_of(steps, version)
-    if len(stream) > STREAM_LIMIT:
+    pieces = pieces_of(steps, version)
+    if sum([len(piece) for piece in pieces]) > STREAM_LIMIT:
         raise TooLong(STREAM_LIMIT)
-    return stream
+    return joined(pieces)
 
 
 def unlimited_stream_of(steps, version):
     """Return the octets with their header and frames, also if they are too many for a stream."""
+    return joined(pieces_of(steps, version))
+
+
+def joined(pieces):
+    """Return the tuple of the octets of all pieces."""
+    octets = []
+    for piece in pieces:
+        octets.extend(piece)
+    return tuple(octets)
+
+
+def pieces_of(steps, version):
+    """Return the list of the octets of the header and of each opcode, those that begin frames among them."""
     codes = [step_octets(word, content, version) for word, content in steps]
     pieces = codes if version < 4 else framed(codes)
-    if version > 1:
-        pieces = [octets_of("version", version), *pieces]
-    return tuple([octet for piece in pieces for octet in piece])
+    if version == 1:
+        return pieces
+    return [octets_of("version", version), *pieces]
 
 
 def step_octets(word, content, version):
@@ -60,11 +73,14 @@ def framed(codes):
     """Return the octets of opcodes with the octets of a frame opcode in front of each frame."""
     pieces = []
     frame = []
+    length = 0
     for code in codes:
-        frame.extend(list(code))
-        if len(frame) >= FRAME_OCTETS:
-            pieces.extend([octets_of("frame", len(frame)), frame])
+        frame.append(code)
+        length += len(code)
+        if length >= FRAME_OCTETS:
+            pieces.extend([octets_of("frame", length), *frame])
             frame = []
+            length = 0
     if frame:
-        pieces.extend([octets_of("frame", len(frame)), frame])
+        pieces.extend([octets_of("frame", length), *frame])
     return pieces
